@@ -1,0 +1,1 @@
+"""Parcelwall: a wall of boxes in which parcels wait."""
