@@ -1,4 +1,8 @@
-"""What several files refuse alike: walls, sizes and nights out of their bounds."""
+"""What several files refuse alike: walls, sizes and nights out of their bounds.
+
+No error of the program tells a number that was handed in: Python writes none of very many figures, and
+its own error would come in the place of the refusal.
+"""
 
 from parcelwall.errors import NoNights, NoSize, NoWall
 
@@ -16,14 +20,14 @@ def check_wall(sizes):
         raise NoWall(f"a wall has 1 to {MOST_BOXES} boxes")
     for size in sizes:
         if not in_bounds(size):
-            raise NoWall(f"{size} is no size of a box")
+            raise NoWall(f"a box has a size from {LEAST} to {GREATEST}")
 
 
 def check_size(size):
     if not in_bounds(size):
-        raise NoSize(f"{size} is no size of a parcel")
+        raise NoSize(f"a parcel has a size from {LEAST} to {GREATEST}")
 
 
 def check_nights(nights):
     if not in_bounds(nights):
-        raise NoNights(f"a parcel is not kept {nights} nights")
+        raise NoNights(f"a parcel is kept {LEAST} to {GREATEST} nights")

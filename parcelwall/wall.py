@@ -66,7 +66,7 @@ class Wall:
     def move(self, parcel, box):
         start = self.box_of(parcel)
         if box not in self.boxes_for(self.parcels[start].size):
-            raise NoBox(f"parcel {parcel} can't be moved to {box}")
+            raise NoBox("a parcel can be moved only to an empty box that holds it")
         self.parcels[box] = self.parcels[start]
         self.parcels[start] = None
 
@@ -76,12 +76,12 @@ class Wall:
     def least_box(self, size):
         boxes = [(self.box_sizes[box], box) for box in self.boxes_for(size)]
         if len(boxes) == 0:
-            raise NoBox(f"no empty box holds a parcel of size {size}")
+            raise NoBox("no empty box holds the parcel")
         # Pairs compare by size first, then by number, as point 3 asks.
         return min(boxes)[1]
 
     def box_of(self, parcel):
         held = self.held()
         if parcel not in held:
-            raise NoParcel(f"no parcel {parcel} is in the wall")
+            raise NoParcel("no parcel of this number is in the wall")
         return held.index(parcel)

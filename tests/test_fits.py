@@ -4,7 +4,7 @@ from itertools import product
 
 from parcelwall.errors import NoSize, NoWall
 from parcelwall.fits import fit, most
-from tests.trying import at_least, below, fits_by_trying, mixed_sizes, most_by_trying
+from tests.trying import FAR, at_least, below, fits_by_trying, mixed_sizes, most_by_trying
 
 BOTH = (fit, most)
 
@@ -161,6 +161,16 @@ class BothFunctions(FitsCase):
     def test_no_wall_ahead_of_no_size(self):
         for sizes, parcels in product(([], [5] * 9, [0], [10]), ([0], [10], [1, -1])):
             self.refused(NoWall, sizes, parcels)
+
+    def test_numbers_of_very_many_figures(self):
+        for number, function in product(FAR, BOTH):
+            for kind, sizes, parcels in (
+                (NoWall, [number], []), (NoWall, [1, number], [number]),
+                (NoSize, [1], [number]), (NoSize, [1], [1, number]),
+            ):
+                with self.assertRaises(kind) as caught:
+                    function(sizes, parcels)
+                self.assertIs(caught.exception.__class__, kind)
 
     def test_more_than_twelve_parcels_are_not_refused(self):
         for number in (13, 16, 30):

@@ -130,6 +130,16 @@ class Code(unittest.TestCase):
                         self.assertIn(node.attr, methods + values + OWN_METHODS)
         self.assertEqual(set(methods) & set(values), set())
 
+    def test_no_error_tells_a_number_that_was_handed_in(self):
+        # Python writes no number of very many figures: its own error would hide the refusal.
+        for path, tree in trees():
+            for node in ast.walk(tree):
+                if isinstance(node, ast.Raise):
+                    for part in ast.walk(node):
+                        if isinstance(part, ast.FormattedValue):
+                            with self.subTest(path=path.name, line=node.lineno):
+                                self.assertRegex(ast.unparse(part.value), r"^[A-Z_]+$")
+
     def test_functions_are_small(self):
         for path, tree in trees():
             for node in ast.walk(tree):

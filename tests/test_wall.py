@@ -5,14 +5,7 @@ from itertools import product
 from parcelwall.errors import NoBox, NoNights, NoParcel, NoSize, NoWall
 from parcelwall.fits import fit
 from parcelwall.wall import Wall
-from tests.trying import fits_by_trying, mixed_sizes
-
-
-def told(wall):
-    """All that a wall tells of itself, to be held against a later look."""
-    parcels = [parcel for parcel in wall.held() if parcel is not None]
-    details = [(parcel, wall.size_of(parcel), wall.left(parcel)) for parcel in parcels]
-    return (wall.sizes(), wall.held(), wall.free(), wall.day(), details)
+from tests.trying import FAR, fits_by_trying, mixed_sizes, told
 
 
 class WallCase(unittest.TestCase):
@@ -391,6 +384,37 @@ class Moving(WallCase):
         for parcel, box in product((1, 2, -1), (0, 1, 2, -1)):
             with self.subTest(parcel=parcel, box=box):
                 self.refused(wall, NoParcel, "move", parcel, box)
+
+
+class NumbersOfVeryManyFigures(WallCase):
+    def wall(self):
+        wall = Wall([3, 5])
+        wall.come(3, 9)
+        return wall
+
+    def test_no_wall(self):
+        for number in FAR:
+            for sizes in ([number], [1, number], [number] * 8):
+                with self.assertRaises(NoWall) as caught:
+                    Wall(sizes)
+                self.assertIs(caught.exception.__class__, NoWall)
+
+    def test_sizes_and_nights(self):
+        for number in FAR:
+            self.refused(self.wall(), NoSize, "come", number, 1)
+            self.refused(self.wall(), NoSize, "come", number, number)
+            self.refused(self.wall(), NoNights, "come", 1, number)
+
+    def test_parcels(self):
+        for number in FAR:
+            for method in ("fetch", "size_of", "left"):
+                self.refused(self.wall(), NoParcel, method, number)
+            self.refused(self.wall(), NoParcel, "move", number, 1)
+            self.refused(self.wall(), NoParcel, "move", number, number)
+
+    def test_boxes(self):
+        for number in FAR:
+            self.refused(self.wall(), NoBox, "move", 0, number)
 
 
 class RefusedOnlyWhereNothingFits(WallCase):
